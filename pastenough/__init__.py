@@ -1,0 +1,1 @@
+"""Pastenough: how much branch history a predictor needs."""
