@@ -62,6 +62,13 @@ def is_counter(value):
     return is_within(value[1], 0, (1 << value[0]) - 1)
 
 
+def scheme_of(word, length, bits):
+    """The scheme of a word and a length; the bits are used for "folded" only."""
+    if word == "folded":
+        return (word, length, bits)
+    return (word, length)
+
+
 def branches(trace):
     """The ascending tuple of the branches of a trace."""
     return tuple(sorted({branch for branch, outcome in trace}))

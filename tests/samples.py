@@ -39,6 +39,17 @@ def random_traces(seed, number):
     return made
 
 
+def schemes_of(length):
+    """Schemes of a length with all four words, folded ones with no, few and most bits."""
+    plain = (("own", length), ("split", length), ("shared", length))
+    return plain + tuple(("folded", length, bits) for bits in (0, 1, 3, 16))
+
+
+def cases(traces, lengths):
+    """All traces with all schemes of the lengths."""
+    return [(trace, scheme) for trace in traces for length in lengths for scheme in schemes_of(length)]
+
+
 def nested(make, depth, inmost):
     value = inmost
     for _ in range(depth):

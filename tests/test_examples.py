@@ -27,6 +27,30 @@ SECTION_6 = """
 (((0, '0'), (1, '0'), (0, '1'), (1, '1')), (0, 0, 1, 1), 5, (1, '1'))
 """
 
+SECTION_7 = """
+>>> from pastenough.clashes import clashes, groups, is_sure, shows_clash, table
+>>> (groups(LOOP, ("shared", 2)), list(clashes(LOOP, ("shared", 2))), is_sure(LOOP, ("shared", 3)))
+((('01', (1,)), ('10', (0,)), ('11', (2, 3))), [(2, 3)], True)
+>>> (table(LOOP, ("shared", 3)), table(LOOP, ("shared", 2)), shows_clash(PAIR, ("folded", 2, 1), (0, 2)))
+((('011', 1), ('101', 1), ('110', 1), ('111', 0)), None, True)
+"""
+
+SECTION_8 = """
+>>> from pastenough.lengths import least_length, longest_factor, reach, reason
+>>> (least_length(LOOP, "shared"), [least_length(PAIR, word) for word in ("own", "split", "shared")], least_length(PAIR, "folded", bits=1))
+(3, [1, 1, 2], 1)
+>>> (reason(LOOP, "shared")[0], reason(LOOP, "shared")[2], reach((1, 1, 1, 0)), longest_factor((1, 1, 1, 0)), longest_factor((1, 1)))
+(3, (2, 3), 3, (2, 0, 1), None)
+"""
+
+SECTION_9 = """
+>>> from pastenough.counters import changes, counted, fixed_values, settled_errors, settled_value, value_after, value_map
+>>> (value_after(2, 3, 1), counted((2, 1), (1, 1, 1, 0)), value_map(2, (0, 1)), fixed_values(2, (0, 1)))
+(3, (2, 2), (1, 1, 2, 3), (1, 2, 3))
+>>> ([settled_errors((2, first), (0, 1)) for first in range(4)], settled_value((2, 0), (0, 1)), changes((0, 1)), changes((1, 1, 1, 0)))
+([1, 1, 2, 1], 1, 2, 2)
+"""
+
 
 class ExamplesTest(unittest.TestCase):
     def check(self, text, number):
@@ -42,9 +66,18 @@ class ExamplesTest(unittest.TestCase):
     def test_section_6(self):
         self.check(NAMES + SECTION_6, 5)
 
+    def test_section_7(self):
+        self.check(NAMES + SECTION_7, 5)
+
+    def test_section_8(self):
+        self.check(NAMES + SECTION_8, 5)
+
+    def test_section_9(self):
+        self.check(NAMES + SECTION_9, 5)
+
     def test_readme(self):
         text = README.read_text(encoding="utf-8").split("```")[1]
-        self.check(text, 5)
+        self.check(text, 9)
 
 
 if __name__ == "__main__":

@@ -4,23 +4,12 @@ import unittest
 
 from pastenough.histories import cell_at, history_at, steady_cells, steady_from, steady_history
 from tests.model import told_cell, told_histories, told_rounds, told_steady, told_steady_from
-from tests.samples import LOOP, PAIR, TRACES, ExactTest, random_traces
+from tests.samples import LOOP, PAIR, TRACES, ExactTest, cases, random_traces, schemes_of
 
 SOME_TRACES = TRACES + tuple(random_traces(4, 24))
 SMALL_TRACES = tuple(trace for trace in SOME_TRACES if len(trace) <= 8)
 LENGTHS = (0, 1, 2, 3, 5, 17, 63, 64)
 FAR = 10 ** 18
-
-
-def schemes_of(length):
-    """Schemes of a length with all four words, folded ones with no, few and most bits."""
-    plain = (("own", length), ("split", length), ("shared", length))
-    return plain + tuple(("folded", length, bits) for bits in (0, 1, 3, 16))
-
-
-def cases(traces, lengths):
-    """All traces with all schemes of the lengths."""
-    return [(trace, scheme) for trace in traces for length in lengths for scheme in schemes_of(length)]
 
 
 class HistoryAtTest(ExactTest):

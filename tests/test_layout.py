@@ -19,6 +19,12 @@ INTERFACE = {
         "root_of", "turned",
     ),
     "histories": ("history_at", "cell_at", "steady_history", "steady_cells", "steady_from", "fold"),
+    "clashes": ("groups", "clashes", "first_clash", "is_sure", "shows_clash", "table", "shows_table"),
+    "lengths": ("least_length", "reason", "reach", "longest_factor"),
+    "counters": (
+        "predicted", "value_after", "counted", "value_map", "fixed_values", "settled_value", "settled_errors",
+        "changes",
+    ),
 }
 
 
