@@ -66,6 +66,16 @@ def cell_of(scheme, branch, history):
     return (branch, history)
 
 
+def owner_of(scheme, branch):
+    """The branch whose outcomes make the history, None for the outcomes of all branches."""
+    return branch if scheme[0] == "own" else None
+
+
+def pushed(history, outcome):
+    """The history behind an outcome: the oldest one goes."""
+    return (history + str(outcome))[1:]
+
+
 def _times(pairs, branch):
     return len([other for other, outcome in pairs if other == branch])
 

@@ -51,6 +51,36 @@ SECTION_9 = """
 ([1, 1, 2, 1], 1, 2, 2)
 """
 
+SECTION_10 = """
+>>> from pastenough.running import errors_by_branch, errors_in, predictions
+>>> ([errors_in(LOOP, ("shared", 0), (2, 1), rounds) for rounds in range(4)], errors_by_branch(PAIR, ("split", 1), (1, 0), 2))
+([0, 2, 3, 4], ((0, 1), (1, 1)))
+>>> list(predictions(LOOP, ("shared", 0), (2, 1), 1))
+[(0, 0, 1), (0, 1, 1), (0, 1, 1), (0, 1, 0)]
+"""
+
+SECTION_11 = """
+>>> from pastenough.far import last_error, settles, steady_errors, total_errors
+>>> (steady_errors(LOOP, ("shared", 0), (2, 1)), settles(LOOP, ("shared", 0), (2, 1)), total_errors(LOOP, ("shared", 0), (2, 1), 10 ** 18), last_error(LOOP, ("shared", 0), (2, 1)))
+(1, 1, 1000000000000000001, None)
+>>> (steady_errors(LOOP, ("shared", 3), (2, 1)), settles(LOOP, ("shared", 3), (2, 1)), total_errors(LOOP, ("shared", 3), (2, 1), 10 ** 18), last_error(LOOP, ("shared", 3), (2, 1)))
+(0, 2, 5, 5)
+"""
+
+SECTION_12 = """
+>>> from pastenough.fixed import best_table, fewest_errors, forced, shows_forced, table_errors
+>>> (fewest_errors(LOOP, ("shared", 2)), forced(LOOP, ("shared", 2)), [table_errors(LOOP, ("shared", 2), some) for some in ((), best_table(LOOP, ("shared", 2)))])
+(1, ((2, 3),), [3, 1])
+>>> (fewest_errors(PAIR, ("shared", 1)), shows_forced(PAIR, ("shared", 1), ((0, 3),)), shows_forced(PAIR, ("shared", 1), ((0, 3), (0, 3))))
+(2, True, False)
+"""
+
+SECTION_13 = """
+>>> from pastenough.budgets import cells_used, compared, leanest, profile, shortest_within
+>>> (profile(LOOP, "shared", 3), shortest_within(LOOP, "shared", 1), cells_used(LOOP, ("shared", 2)), leanest(PAIR, 0), leanest(PAIR, 2), compared(LOOP, (2, 1), ("shared", 0), ("shared", 3)))
+((1, 1, 1, 0), 0, 3, ('own', 1), ('shared', 0), 1)
+"""
+
 
 class ExamplesTest(unittest.TestCase):
     def check(self, text, number):
@@ -75,9 +105,21 @@ class ExamplesTest(unittest.TestCase):
     def test_section_9(self):
         self.check(NAMES + SECTION_9, 5)
 
+    def test_section_10(self):
+        self.check(NAMES + SECTION_10, 5)
+
+    def test_section_11(self):
+        self.check(NAMES + SECTION_11, 5)
+
+    def test_section_12(self):
+        self.check(NAMES + SECTION_12, 5)
+
+    def test_section_13(self):
+        self.check(NAMES + SECTION_13, 4)
+
     def test_readme(self):
         text = README.read_text(encoding="utf-8").split("```")[1]
-        self.check(text, 9)
+        self.check(text, 13)
 
 
 if __name__ == "__main__":

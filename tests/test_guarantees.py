@@ -4,10 +4,12 @@ import itertools
 import random
 import unittest
 
-from pastenough.clashes import groups, is_sure, shows_clash, shows_table
+from pastenough.clashes import clashes, groups, is_sure, shows_clash, shows_table
 from pastenough.counters import settled_errors
+from pastenough.far import last_error, settles, steady_errors, total_errors
+from pastenough.fixed import best_table, fewest_errors, forced, table_errors
 from pastenough.lengths import least_length, reason
-from tests.model import ToldPredictor, told_for_ever, told_wrong
+from tests.model import ToldPredictor, told_clashes, told_for_ever, told_steady_cells, told_wrong
 from tests.samples import LOOP, PAIR, TRACES, ExactTest, cases, random_traces, schemes_of
 
 COUNTERS = tuple((bits, first) for bits in (1, 2, 3, 4) for first in range(2 ** bits))
@@ -121,6 +123,97 @@ class SettledCountersTest(ExactTest):
             for scheme in schemes_of(0) + schemes_of(2) + (("own", 64), ("folded", 64, 4)):
                 for counter in ((2, 2), (4, 7)):
                     self.check(trace, scheme, counter)
+
+
+class FarErrorsTest(ExactTest):
+    """Guarantee (c), of whole traces: from some round on each round has the same errors, and all counts are exact."""
+
+    def check(self, trace, scheme, counter):
+        rounds, again = told_for_ever(trace, scheme, counter)
+        errors = [told_wrong(row) for row in rounds]
+        steady = errors[-1]
+        first = settles(trace, scheme, counter)
+        with self.subTest(trace=trace, scheme=scheme, counter=counter):
+            self.assertEqual(set(errors[again:]), {steady})
+            self.same(steady_errors(trace, scheme, counter), steady)
+            self.assertEqual(set(errors[first:]) - {steady}, set())
+            self.assertTrue(first == 0 or errors[first - 1] != steady)
+            # The rounds behind those of the simulation are like its last one.
+            later = 10 ** 18 - len(errors)
+            self.same(total_errors(trace, scheme, counter, 10 ** 18), sum(errors) + later * steady)
+            wrong = [prediction != outcome for row in rounds for _, prediction, outcome in row]
+            last = max([at for at, is_wrong in enumerate(wrong) if is_wrong], default=-1)
+            self.same(last_error(trace, scheme, counter), None if steady > 0 else last)
+
+    def test_traces_of_one_and_two_pairs_with_all_counters(self):
+        for trace, scheme in cases(TINY, (0, 1, 2)):
+            for counter in COUNTERS:
+                self.check(trace, scheme, counter)
+
+    def test_traces_of_three_and_four_pairs(self):
+        for trace, scheme in cases(SMALL, (0, 1, 3)):
+            for counter in ((1, 0), (2, 2), (4, 15)):
+                self.check(trace, scheme, counter)
+
+
+class FixedTablesTest(ExactTest):
+    """Guarantee (d): no fixed table makes fewer errors, and each pair of forced forces one."""
+
+    def check(self, trace, scheme):
+        cells = told_steady_cells(trace, scheme)
+        pairs = forced(trace, scheme)
+        fewest = fewest_errors(trace, scheme)
+        distinct = sorted(set(cells))
+        with self.subTest(trace=trace, scheme=scheme):
+            self.assertEqual(len(pairs), fewest)
+            self.assertLessEqual(set(pairs), set(told_clashes(trace, scheme)))
+            least = len(trace)
+            for outcomes in itertools.product((0, 1), repeat=len(distinct)):
+                known = dict(zip(distinct, outcomes))
+                wrong = [known[cell] != outcome for cell, (_, outcome) in zip(cells, trace)]
+                self.assertEqual([wrong[one] + wrong[other] for one, other in pairs], [1] * fewest)
+                least = min(least, sum(wrong))
+            self.assertEqual(least, fewest)
+            self.assertEqual(table_errors(trace, scheme, best_table(trace, scheme)), fewest)
+
+    def test_small_traces(self):
+        for trace, scheme in cases(TINY + SMALL, (0, 1, 2)):
+            self.check(trace, scheme)
+
+    def test_larger_traces(self):
+        for trace in LARGE:
+            for scheme in (("shared", 0), ("shared", 2), ("own", 0), ("folded", 9, 3), ("folded", 64, 1)):
+                self.check(trace, scheme)
+
+
+class MoreHistoryTest(ExactTest):
+    """Guarantee (e): what more history, and telling the branches apart, never makes worse."""
+
+    def check_lengths(self, trace, word, lengths):
+        for length in lengths:
+            with self.subTest(trace=trace, word=word, length=length):
+                less, more = (word, length), (word, length + 1)
+                self.assertLessEqual(set(clashes(trace, more)), set(clashes(trace, less)))
+                self.assertLessEqual(fewest_errors(trace, more), fewest_errors(trace, less))
+
+    def check_words(self, trace, lengths):
+        for length in lengths:
+            with self.subTest(trace=trace, length=length):
+                split, shared = ("split", length), ("shared", length)
+                self.assertTrue(is_sure(trace, split) or not is_sure(trace, shared))
+                self.assertLessEqual(fewest_errors(trace, split), fewest_errors(trace, shared))
+
+    def test_small_traces(self):
+        for trace in TINY + SMALL:
+            for word in PLAIN_WORDS:
+                self.check_lengths(trace, word, range(5))
+            self.check_words(trace, range(6))
+
+    def test_large_traces(self):
+        for trace in LARGE:
+            for word in PLAIN_WORDS:
+                self.check_lengths(trace, word, (0, 1, 2, 3, 5, 9, 20, 62, 63))
+            self.check_words(trace, (0, 1, 2, 3, 4, 6, 9, 20, 63, 64))
 
 
 if __name__ == "__main__":

@@ -25,6 +25,10 @@ INTERFACE = {
         "predicted", "value_after", "counted", "value_map", "fixed_values", "settled_value", "settled_errors",
         "changes",
     ),
+    "running": ("errors_in", "errors_by_branch", "predictions"),
+    "far": ("steady_errors", "settles", "total_errors", "last_error"),
+    "fixed": ("table_errors", "fewest_errors", "best_table", "forced", "shows_forced"),
+    "budgets": ("profile", "shortest_within", "cells_used", "leanest", "compared"),
 }
 
 
