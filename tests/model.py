@@ -144,3 +144,28 @@ def told_for_ever(trace, scheme, counter):
         if state in states:
             return rounds, states.index(state)
         states.append(state)
+
+
+def told_reach(pattern):
+    """The least length of a shared history without a clash, from the clashes of one length after the other."""
+    trace = tuple((0, outcome) for outcome in pattern)
+    length = 0
+    while told_clashes(trace, ("shared", length)):
+        length += 1
+    return length
+
+
+def told_walks(length, most):
+    """All ways of a length with at most so many nodes, each one from its least node on, by going from node to node."""
+    nodes = ["".join(digits) for digits in itertools.product("01", repeat=length)]
+    ways = []
+    walks = [[node] for node in nodes]
+    while walks:
+        walk = walks.pop()
+        for sign in "01":
+            follower = walk[-1][1:] + sign
+            if follower == walk[0]:
+                ways.append(tuple(walk))
+            elif len(walk) < most and follower > walk[0] and follower not in walk:
+                walks.append(walk + [follower])
+    return ways

@@ -4,6 +4,9 @@ import doctest
 import unittest
 from pathlib import Path
 
+from pastenough.errors import TooShort
+from pastenough.ways import way_of
+
 README = Path(__file__).resolve().parent.parent / "README.md"
 
 NAMES = """
@@ -81,6 +84,26 @@ SECTION_13 = """
 ((1, 1, 1, 0), 0, 3, ('own', 1), ('shared', 0), 1)
 """
 
+SECTION_14 = """
+>>> from pastenough.patterns import count_patterns, full_count, full_pattern, patterns, primitive_count
+>>> ([count_patterns(4, length) for length in range(4)], list(patterns(3, 0)), len(list(patterns(3, 2))), primitive_count(4))
+([2, 4, 8, 16], [(0, 0, 0), (1, 1, 1)], 6, 12)
+>>> (len(full_pattern(5)), [full_count(length) for length in (1, 2, 3, 4, 5)])
+(32, [1, 1, 2, 16, 2048])
+"""
+
+SECTION_15 = """
+>>> from pastenough.ways import is_way, leads_to, pattern_of, way_of, ways_count
+>>> (leads_to("011"), way_of((1, 1, 1, 0), 3), pattern_of(("110", "101", "011", "111")), is_way(2, ("01", "11", "10")), [ways_count(2, nodes) for nodes in range(1, 6)])
+(('110', '111'), ('110', '101', '011', '111'), (1, 1, 1, 0), True, [2, 1, 2, 1, 0])
+"""
+
+SECTION_16 = """
+>>> from pastenough.folding import harmful, least_bits, meetings
+>>> (meetings(PAIR, 1, 1), harmful(PAIR, 1, 1), harmful(PAIR, 2, 1), least_bits(PAIR, 1), least_bits(PAIR, 2), least_bits(LOOP, 2))
+(((0, 1), (2, 3)), (), ((0, 2), (0, 3), (1, 2), (1, 3)), 1, 2, None)
+"""
+
 
 class ExamplesTest(unittest.TestCase):
     def check(self, text, number):
@@ -117,9 +140,21 @@ class ExamplesTest(unittest.TestCase):
     def test_section_13(self):
         self.check(NAMES + SECTION_13, 4)
 
+    def test_section_14(self):
+        self.check(NAMES + SECTION_14, 5)
+
+    def test_section_15(self):
+        self.check(NAMES + SECTION_15, 4)
+        with self.assertRaises(TooShort) as caught:
+            way_of((1, 1, 1, 0), 2)
+        self.assertEqual(caught.exception.reach, 3)
+
+    def test_section_16(self):
+        self.check(NAMES + SECTION_16, 4)
+
     def test_readme(self):
         text = README.read_text(encoding="utf-8").split("```")[1]
-        self.check(text, 13)
+        self.check(text, 18)
 
 
 if __name__ == "__main__":

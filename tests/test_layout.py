@@ -29,6 +29,9 @@ INTERFACE = {
     "far": ("steady_errors", "settles", "total_errors", "last_error"),
     "fixed": ("table_errors", "fewest_errors", "best_table", "forced", "shows_forced"),
     "budgets": ("profile", "shortest_within", "cells_used", "leanest", "compared"),
+    "patterns": ("count_patterns", "patterns", "primitive_count", "full_pattern", "full_count"),
+    "ways": ("leads_to", "is_way", "way_of", "pattern_of", "ways_count"),
+    "folding": ("meetings", "harmful", "least_bits"),
 }
 
 
