@@ -1,7 +1,7 @@
 """The errors in all rounds, however many they are."""
 
 from pastenough.counters import most_value
-from pastenough.running import wrong_moments
+from pastenough.running import errors_by_round, wrong_moments
 
 
 def steady_errors(trace, scheme, counter):
@@ -47,8 +47,4 @@ def _early_rounds(scheme, counter):
 
 def _early_errors(trace, scheme, counter):
     """The list of the errors in each early round; the last entry holds for all later rounds, too."""
-    rounds = _early_rounds(scheme, counter)
-    errors = [0] * rounds
-    for moment in wrong_moments(trace, scheme, counter, rounds):
-        errors[moment // len(trace)] += 1
-    return errors
+    return errors_by_round(trace, scheme, counter, _early_rounds(scheme, counter))

@@ -16,6 +16,14 @@ def errors_by_branch(trace, scheme, counter, rounds):
     return tuple([(branch, wrong.count(branch)) for branch in branches(trace)])
 
 
+def errors_by_round(trace, scheme, counter, rounds):
+    """The list of the errors in each of the first rounds."""
+    errors = [0] * rounds
+    for moment in wrong_moments(trace, scheme, counter, rounds):
+        errors[moment // len(trace)] += 1
+    return errors
+
+
 def predictions(trace, scheme, counter, rounds):
     """The triples (branch, prediction, outcome) of all moments of the first rounds, in sequence."""
     bits, first = counter

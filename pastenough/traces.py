@@ -10,10 +10,15 @@ MOST_COUNTER_BITS = 4
 PLAIN_WORDS = ("own", "split", "shared")
 
 
+def is_integer(value):
+    """Whether any value is an integer."""
+    # Python takes True and False for integers, the document does not.
+    return isinstance(value, int) and not isinstance(value, bool)
+
+
 def is_within(value, low, high):
     """Whether any value is an integer from low to high."""
-    # Python takes True and False for integers, the document does not.
-    return isinstance(value, int) and not isinstance(value, bool) and low <= value <= high
+    return is_integer(value) and low <= value <= high
 
 
 def is_branch(value):

@@ -104,6 +104,35 @@ SECTION_16 = """
 (((0, 1), (2, 3)), (), ((0, 2), (0, 3), (1, 2), (1, 3)), 1, 2, None)
 """
 
+SECTION_17 = """
+>>> from pastenough.weaving import rounds_in, woven
+>>> (woven(((0, 1), (0, 0)), ((0, 1),)), rounds_in(((0, 1), (0, 0)), ((0, 1),)))
+(((0, 1), (1, 1), (0, 0), (1, 1)), (1, 2))
+"""
+
+SECTION_18 = """
+>>> from pastenough.live import Predictor, tried
+>>> predictor = Predictor(("shared", 2), (2, 1))
+>>> (predictor.predict(0), predictor(0, 1), predictor.learn(0, 1), predictor.history(0), predictor["00"], "11" in predictor, len(predictor), predictor.errors)
+(0, False, False, '11', 2, False, 2, 2)
+>>> (tried(predictor, lambda one: one.learn_all(LOOP, 2)), predictor.undo(), predictor.learned, predictor.history(0))
+(4, (0, 1), ((0, 1),), '01')
+"""
+
+# Its report has line feeds, which its string shows by a backslash each.
+SECTION_19 = r"""
+>>> from pastenough.texts import read_scheme, read_trace, report, show_counter, show_pattern, show_trace
+>>> (show_trace(PAIR), show_pattern((1, 1, 1, 0)), show_counter((2, 1)), read_trace("0:1 0:0"), read_scheme("folded 5 3"), report(LOOP, ("shared", 0), (2, 1), 2))
+('0:1 1:1 0:0 1:0', '1110', '2 1', ((0, 1), (0, 0)), ('folded', 5, 3), '   0   2\n   1   1')
+"""
+
+SECTION_20 = """
+>>> from pastenough.desk import Desk
+>>> desk = Desk()
+>>> (desk.say("pattern 1110"), desk.say("scheme shared 2"), desk.say("sure"), desk.say("least shared"), desk.say("steady"), desk.say("fewest"), desk.say("leanest 0"))
+('done', 'done', 'no 2 3', '3', '2', '1', 'own 3')
+"""
+
 
 class ExamplesTest(unittest.TestCase):
     def check(self, text, number):
@@ -152,9 +181,21 @@ class ExamplesTest(unittest.TestCase):
     def test_section_16(self):
         self.check(NAMES + SECTION_16, 4)
 
+    def test_section_17(self):
+        self.check(NAMES + SECTION_17, 4)
+
+    def test_section_18(self):
+        self.check(NAMES + SECTION_18, 6)
+
+    def test_section_19(self):
+        self.check(NAMES + SECTION_19, 4)
+
+    def test_section_20(self):
+        self.check(NAMES + SECTION_20, 5)
+
     def test_readme(self):
         text = README.read_text(encoding="utf-8").split("```")[1]
-        self.check(text, 18)
+        self.check(text, 30)
 
 
 if __name__ == "__main__":

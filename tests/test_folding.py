@@ -121,6 +121,12 @@ class LeastBitsTest(ExactTest):
         self.same(told_least_bits(trace, 64), 16)
         self.same(least_bits(trace, 64), 16)
 
+    def test_more_than_sixteen_bits_are_not_tried(self):
+        trace = ((5, 0),) * 17 + ((5, 1), (5, 0))
+        self.same(told_clashes(trace, ("folded", 40, 17)), [])
+        self.same(told_least_bits(trace, 40), None)
+        self.same(least_bits(trace, 40), None)
+
     def test_arguments_by_name(self):
         self.same(least_bits(length=2, trace=PAIR), 2)
 
